@@ -27,11 +27,15 @@ func put(locale, key, pattern string) api.Change {
 func drop(locale, key string) api.Change      { return dropping(entry(locale, key, "")) }
 func dropping(e api.Entry) api.Change         { return api.Change{Drop: true, Entry: e} }
 func changes(list ...api.Change) []api.Change { return list }
-func number(name string, n int64) api.Arg     { return api.Arg{Name: name, IsNum: true, N: n} }
-func word(name, s string) api.Arg             { return api.Arg{Name: name, S: s} }
-func with(args ...api.Arg) []api.Arg          { return args }
-func letters(n int) string                    { return strings.Repeat("x", n) }
-func then[T any](lists ...[]T) []T            { return slices.Concat(lists...) }
+
+// number and word are arguments; with lists them.
+func number(name string, n int64) api.Arg { return api.Arg{Name: name, IsNum: true, N: n} }
+func word(name, s string) api.Arg         { return api.Arg{Name: name, S: s} }
+func with(args ...api.Arg) []api.Arg      { return args }
+
+// letters is a text of so many bytes; then joins lists in a new one; at is a list in which one entry is another.
+func letters(n int) string         { return strings.Repeat("x", n) }
+func then[T any](lists ...[]T) []T { return slices.Concat(lists...) }
 func at(l []api.Entry, i int, e api.Entry) []api.Entry {
 	l = slices.Clone(l)
 	l[i] = e
